@@ -1,0 +1,1 @@
+"""Chairclans: a chair goes from clan to clan."""
