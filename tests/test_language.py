@@ -193,7 +193,8 @@ def drawn_from(name):
 
 def defined_in(name):
     tree = ast.parse((PACKAGE / f"{name}.py").read_text("utf-8"))
-    return [node.name for node in tree.body if isinstance(node, (ast.FunctionDef, ast.ClassDef))]
+    values = [node.targets[0].id for node in tree.body if isinstance(node, ast.Assign)]
+    return values + [node.name for node in tree.body if isinstance(node, (ast.FunctionDef, ast.ClassDef))]
 
 
 def files():

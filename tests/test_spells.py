@@ -7,45 +7,10 @@ from fractions import Fraction
 
 from chairclans.errors import NoSpell
 from chairclans.spells import quotas, turns_of
-from tests.helper import assert_refused, assert_same, assert_whole, number_of
-
-MOST = 10 ** 30 - 1
-PLAIN = [(2, [1, 2]), (1, [1, 0]), (3, [5, 5])]
-
-
-def with_spell(place, spell):
-    """The plain spells with another one in the place of the first, the middle or the last."""
-    spells = copy.deepcopy(PLAIN)
-    spells[place] = spell
-    return spells
-
-
-def everywhere(spell):
-    return [with_spell(place, spell) for place in range(len(PLAIN))] + [[copy.deepcopy(spell)]]
-
-
-def weights_everywhere(weights):
-    """The weights in one of the spells, and in all of them."""
-    return everywhere((2, weights)) + [[(turns, list(weights)) for turns, others in PLAIN]]
-
-
-def wrong_spells():
-    wrong = [[], [(1, [1, 2])] * 9, [(7, [1])] * 9]
-    for turns in (0, -1, -60, -10 ** 299, 61, 62, 1000):
-        wrong += everywhere((turns, [1, 2]))
-    for place in range(8):
-        wrong.append([(7 if other == place else 8, [1, 2]) for other in range(8)])
-        wrong.append([(54 if other == place else 1, [1, 2]) for other in range(8)])
-    # A number of turns below 1 is refused even where all turns come to a number that is none too many.
-    wrong += [[(-1, [1]), (5, [1])], [(5, [1]), (0, [1]), (5, [1])], [(70, [1]), (-20, [1])]]
-    wrong += weights_everywhere([]) + weights_everywhere([1] * 9) + weights_everywhere([1] + [0] * 8)
-    for weights in ([0, 0], [-1, 2], [2, -1], [1, -1], [-1, -1], [0, -1], [10 ** 30, 1], [1, 10 ** 30],
-                    [0, 10 ** 30], [-10 ** 30, 1], [10 ** 299, 0], [-MOST, MOST]):
-        wrong += weights_everywhere(weights)
-    for weights in ([1], [1, 2, 3], [1, 2, 0]):
-        wrong += [with_spell(place, (2, weights)) for place in range(len(PLAIN))]
-    wrong += [[(1, [0])], [(1, [0] * 8)], [(1, [1, 1]), (1, [1])], [(1, [1]), (1, [1, 1])]]
-    return wrong
+from tests.helper import (
+    MOST, PLAIN, assert_refused, assert_same, assert_whole, everywhere, number_of, quota_rows, shares_by_turn,
+    wrong_spells,
+)
 
 
 def right_spells():
@@ -68,14 +33,8 @@ def right_spells():
     return right
 
 
-def shares_by_turn(spells):
-    return [[Fraction(weight, sum(weights)) for weight in weights] for turns, weights in spells for turn in range(turns)]
-
-
 def wanted_quotas(spells):
-    rows = [[Fraction(0)] * len(spells[0][1])]
-    for shares in shares_by_turn(spells):
-        rows.append([quota + share for quota, share in zip(rows[-1], shares)])
+    rows = quota_rows(spells)
     bottom = math.lcm(*[quota.denominator for row in rows for quota in row])
     return (bottom, [[int(quota * bottom) for quota in row] for row in rows])
 
