@@ -133,8 +133,8 @@ def wrong_bounds(clans):
     right = [((1, 1), (1, 2))] * clans
     wrong = [right[1:], right + right[:1], right + [((0, 1), (0, 1))] * 8, []]
     near = 10 ** 299
-    for bound in ((-1, 1), (-1, 2), (-1, near), (-near, 1), (11, 1), (21, 2), (near + 1, near // 10), (10 ** 21 + 1, 10 ** 20),
-                  (near, 1)):
+    for bound in ((-1, 1), (-1, 2), (-1, near), (-near, 1), (11, 1), (21, 2), (near + 1, near // 10),
+                  (10 ** 21 + 1, 10 ** 20), (near, 1)):
         for clan in range(clans):
             for pressed in ((bound, (1, 1)), ((1, 1), bound), (bound, bound)):
                 wrong.append(right[:clan] + [pressed] + right[clan + 1:])
@@ -196,7 +196,8 @@ def drawn_row(chance, spells):
 
 
 def shares_by_turn(spells):
-    return [[Fraction(weight, sum(weights)) for weight in weights] for turns, weights in spells for turn in range(turns)]
+    return [[Fraction(weight, sum(weights)) for weight in weights]
+            for turns, weights in spells for turn in range(turns)]
 
 
 def quota_rows(spells):
@@ -218,7 +219,8 @@ def wanted_distance(spells, row):
 
 
 def is_kept(spells, bounds, row):
-    return all(-below <= lead <= above for leads in leads_of(spells, row) for lead, (below, above) in zip(leads, bounds))
+    return all(-below <= lead <= above
+               for leads in leads_of(spells, row) for lead, (below, above) in zip(leads, bounds))
 
 
 def just_kept(spells, row):
