@@ -4,6 +4,7 @@ import copy
 import itertools
 import math
 import operator
+import random
 from fractions import Fraction
 
 from chairclans import errors
@@ -293,3 +294,138 @@ def assert_why(test, turns, windows, why):
         name, t = why
         test.assertTrue(1 <= t <= turns, why)
         test.assertLess(len([visit for visit in windows if visit[2] <= t]), t, why)
+
+
+def wrong_weights():
+    """Weights that could not be those of a spell."""
+    wrong = [[], [1] * 9, [1] + [0] * 8, [0] * 9]
+    for clans in range(1, 9):
+        wrong.append([0] * clans)
+        for place in {0, clans // 2, clans - 1}:
+            for weight in (-1, -MOST, 10 ** 30, 10 ** 299, -10 ** 30):
+                wrong.append([weight if other == place else 1 for other in range(clans)])
+    return wrong
+
+
+def wrong_rules(turns, clans):
+    """A wrong rule by itself, and at the first, a middle and the last place of right ones."""
+    right = [("fixed", 1, 0), ("barred", turns, clans - 1), ("fixed", turns, 0), ("barred", 1, clans - 1)]
+    far = 10 ** 299
+    wrong = [(word, 1, 0) for word in ("", "fix", "bar", "free", "Fixed", "BARRED", "fixed ", " barred", "fixe", "row")]
+    for word in ("fixed", "barred"):
+        wrong += [(word, turn, 0) for turn in (0, -1, -turns, -far, turns + 1, turns + 2, 61, 100, far)]
+        wrong += [(word, turns, clan) for clan in (-1, -clans, -8, -far, clans, clans + 1, 8, 9, far)]
+    wrong += [("fix", 0, 0), ("fixed", 0, clans), ("", turns + 1, -1)]
+    return [right[:place] + [rule] + right[place:] for rule in wrong for place in (0, 2, 4)] + [[one] for one in wrong]
+
+
+def is_let(rules, turn, clan):
+    """Whether no rule forbids the turn to the clan."""
+    return all((clan == own) == (word == "fixed") for word, other, own in rules if other == turn)
+
+
+def keeps_rules(rules, row):
+    return all((row[turn - 1] == clan) == (word == "fixed") for word, turn, clan in rules)
+
+
+def comes_at(window, rules, turn):
+    clan, j, opens, last = window
+    return opens <= turn and (last is None or turn <= last) and is_let(rules, turn, clan)
+
+
+def drawn_bounds(chance, clans):
+    """Bounds that are now narrow, now wide, 0 and 10 among them."""
+    kind = chance.choice(("nought", "narrow", "narrow", "middle", "middle", "wide", "mixed"))
+    most = {"nought": 0, "narrow": 12, "middle": 24, "wide": 120, "mixed": 18}[kind]
+    bounds = [(Fraction(chance.randrange(most + 1), 12), Fraction(chance.randrange(most + 1), 12))
+              for clan in range(clans)]
+    if kind == "mixed":
+        ends = (Fraction(0), Fraction(10))
+        bounds[chance.randrange(clans)] = (chance.choice(ends), chance.choice(ends))
+    return bounds
+
+
+def drawn_rules(chance, turns, clans, count):
+    return [(chance.choice(("fixed", "barred", "barred")), chance.randrange(1, turns + 1), chance.randrange(clans))
+            for again in range(count)]
+
+
+def rules_round(chance, row, clans):
+    """Rules that the row keeps, some of them twice, in any order."""
+    rules = []
+    for turn, clan in enumerate(row, start=1):
+        if chance.random() < 0.2:
+            rules.append(("fixed", turn, clan))
+        rules += [("barred", turn, other) for other in range(clans) if other != clan and chance.random() < 0.3]
+    rules += rules[:2]
+    chance.shuffle(rules)
+    return rules
+
+
+def ruled(seed, most_turns, times, most_clans=8):
+    """Spells, bounds and rules that a drawn row keeps, such with some rules more, and such of any kind."""
+    chance = random.Random(seed)
+    found = []
+    for again in range(times):
+        turns, clans = chance.randrange(1, most_turns + 1), chance.randrange(1, most_clans + 1)
+        spells = drawn_spells(chance, clans, min(turns, chance.randrange(1, 4)), turns)
+        row = drawn_row(chance, spells)
+        bounds = just_kept(spells, row)
+        if max(max(one) for one in bounds) <= 10:
+            rules = rules_round(chance, row, clans)
+            found.append((spells, bounds, rules, row))
+            against = rules + drawn_rules(chance, turns, clans, chance.randrange(1, 4))
+            found.append((spells, bounds, against, drawn_row(chance, spells)))
+        drawn = [chance.randrange(clans) for turn in range(turns)]
+        rules = drawn_rules(chance, turns, clans, chance.choice((0, 1, 2, turns // 2, turns)))
+        found.append((spells, drawn_bounds(chance, clans), rules, drawn))
+    return found
+
+
+def few_ruled(seed, times):
+    """Likewise of so few turns and clans that all rows can be walked."""
+    chance = random.Random(seed)
+    found = []
+    for clans, turns in ((1, 2), (1, 4), (2, 1), (2, 3), (2, 5), (2, 7), (3, 2), (3, 4), (4, 3), (5, 3)):
+        for again in range(times):
+            spells = small_spells(chance, clans, turns)
+            bounds = drawn_bounds(chance, clans)
+            rules = drawn_rules(chance, turns, clans, chance.choice((0, 1, 1, 2, 3)))
+            found.append((spells, bounds, rules, [chance.randrange(clans) for turn in range(turns)]))
+    return found
+
+
+def rows_kept(spells, bounds, rules):
+    return [row for row in all_rows(spells) if keeps_rules(rules, row) and is_kept(spells, bounds, row)]
+
+
+def assert_placed_row(test, spells, bounds, rules, row):
+    assert_row(test, row)
+    test.assertEqual(len(row), sum(spell[0] for spell in spells))
+    test.assertTrue(is_kept(spells, bounds, row))
+    test.assertTrue(keeps_rules(rules, row))
+
+
+def assert_stuck(test, spells, bounds, rules, told):
+    """Due visits that have together too few turns, or turns that have together too few visits."""
+    test.assertIs(type(told), tuple)
+    word, some = told
+    test.assertIs(type(some), list)
+    windows = wanted_windows(spells, bounds)
+    turns = range(1, sum(spell[0] for spell in spells) + 1)
+    test.assertEqual(some, sorted(set(some)))
+    if word == "visits":
+        for visit in some:
+            test.assertIs(type(visit), tuple)
+            for number in visit:
+                assert_whole(test, number)
+        found = [window for window in windows if window[:2] in some and window[3] is not None]
+        test.assertEqual([window[:2] for window in found], some)
+        places = [turn for turn in turns if any(comes_at(window, rules, turn) for window in found)]
+    else:
+        test.assertEqual(word, "turns")
+        for turn in some:
+            assert_whole(test, turn)
+            test.assertIn(turn, turns)
+        places = [window for window in windows if any(comes_at(window, rules, turn) for turn in some)]
+    test.assertLess(len(places), len(some))
