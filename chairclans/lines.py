@@ -51,7 +51,7 @@ def check_form(words, form):
 
 
 def is_made_of(word, signs, longest):
-    return 1 <= len(word) <= longest and all([sign in signs for sign in word])
+    return len(word) <= longest and all([sign in signs for sign in word])
 
 
 def number_of(word):
@@ -87,7 +87,7 @@ def value_of(kind, word, names):
 def values_of(words, names):
     form = form_of(words)
     check_form(words, form)
-    values = list(words[1:])
+    values = words[1:]
     for kind in KINDS:
         for place, own in enumerate(form):
             if own == kind:

@@ -42,20 +42,21 @@ def move_along(choice, came, taken, holders):
         choice = former
 
 
-def stuck_with(start, choices, taken, holders):
+def settle(start, choices, taken, holders):
     reached = [start]
     came = {}
     place = 0
     while place < len(reached):
-        for choice in choices[reached[place]]:
+        seeker = reached[place]
+        for choice in choices[seeker]:
             if choice not in came:
-                came[choice] = reached[place]
+                came[choice] = seeker
                 if choice not in holders:
                     move_along(choice, came, taken, holders)
                     return []
                 reached.append(holders[choice])
         place += 1
-    # All their choices are held by those reached, and the start holds none: they are one more than their choices.
+    # Those reached hold all their choices between them, and the start holds none: they are one more than these.
     return sorted(reached)
 
 
@@ -65,15 +66,17 @@ def place_visits(visits, choices):
     turns_for = choices_of_visits(visits, choices)
     for place, visit in enumerate(visits):
         if visit[3] is not None:
-            stuck = stuck_with(place, turns_for, turn_of_visit, visit_of_turn)
+            stuck = settle(place, turns_for, turn_of_visit, visit_of_turn)
             if len(stuck) > 0:
                 return ("visits", [(visits[other][0], visits[other][1]) for other in stuck])
     for turn in range(len(choices)):
         if turn not in visit_of_turn:
             # A visit once placed stays placed, so all due visits still come.
-            stuck = stuck_with(turn, choices, visit_of_turn, turn_of_visit)
+            stuck = settle(turn, choices, visit_of_turn, turn_of_visit)
             if len(stuck) > 0:
                 return ("turns", [other + 1 for other in stuck])
+    # Neither openings nor last turns fall with j: so a clan's visits can change places until they come in their order,
+    # and its turns alone matter.
     return ("row", [visits[visit_of_turn[turn]][0] for turn in range(len(choices))])
 
 

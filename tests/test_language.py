@@ -29,6 +29,9 @@ WORDS = """type typing typing_extensions enum Enum IntEnum StrEnum Flag IntFlag 
     NamedTuple TypedDict TYPE_CHECKING abstractmethod""".split()
 UNDERSCORED = "__init__ __eq__ __repr__ __str__ __len__ __all__ __version__".split()
 WALKED_AT_ONCE = "zip enumerate reversed range".split()
+CHANGING = "append clear extend insert pop remove reverse setdefault update".split()
+LET_AS_METHODS = METHODS + ["add", "discard"]
+LET_AS_VALUES = "count index title find get join lower upper split strip copy add".split()
 
 
 def faults_of_text(text):
@@ -152,6 +155,53 @@ def faults_of_node(node, own_methods):
     return faults
 
 
+def walked_by(node):
+    """What a loop walks, itself or through `enumerate`, `zip`, `reversed` or a method."""
+    if isinstance(node, ast.Call) and isinstance(node.func, ast.Name) and node.func.id in WALKED_AT_ONCE:
+        return [walked for part in node.args for walked in walked_by(part)]
+    if isinstance(node, ast.Call) and isinstance(node.func, ast.Attribute):
+        return [ast.unparse(node.func.value)]
+    return [ast.unparse(node)] if isinstance(node, (ast.Name, ast.Attribute, ast.Subscript)) else []
+
+
+def faults_of_loop(loop):
+    walked = walked_by(loop.iter)
+    faults = []
+    for statement in loop.body:
+        for node in ast.walk(statement):
+            if isinstance(node, ast.Call) and isinstance(node.func, ast.Attribute) and node.func.attr in CHANGING:
+                if ast.unparse(node.func.value) in walked:
+                    faults.append("L23 changed while walked")
+            if isinstance(node, ast.Subscript) and isinstance(node.ctx, ast.Store) and ast.unparse(node.value) in walked:
+                faults.append("L23 changed while walked")
+    return faults
+
+
+def top_holders(tree):
+    return [node.targets[0].id for node in tree.body
+            if isinstance(node, ast.Assign) and isinstance(node.value, (ast.List, ast.Dict))]
+
+
+def faults_of_holders(tree):
+    """Lists and dicts of the top: nothing of their kind within them, and they are read by an index or `in` alone."""
+    holders = top_holders(tree)
+    faults, let = [], []
+    for node in ast.walk(tree):
+        if isinstance(node, ast.Subscript) and isinstance(node.ctx, ast.Load):
+            let.append(node.value)
+        if isinstance(node, ast.Compare):
+            let += node.comparators
+    for node in tree.body:
+        if isinstance(node, ast.Assign):
+            for part in list(ast.walk(node.value))[1:]:
+                if isinstance(part, (ast.List, ast.Dict)):
+                    faults.append("L15 a list within a list")
+    for node in ast.walk(tree):
+        if isinstance(node, ast.Name) and isinstance(node.ctx, ast.Load) and node.id in holders and node not in let:
+            faults.append(f"L15 {node.id}")
+    return faults
+
+
 def docstrings(tree):
     return [tree.body[0]] if tree.body and ast.get_docstring(tree) is not None else []
 
@@ -173,9 +223,11 @@ def faults_of(text):
             faults += faults_of_class(node)
     own_methods = [part.name for node in tree.body if isinstance(node, ast.ClassDef) for part in node.body
                    if isinstance(part, ast.FunctionDef)]
-    faults += faults_of_top(tree)
+    faults += faults_of_top(tree) + faults_of_holders(tree)
     for node in ast.walk(tree):
         faults += faults_of_node(node, own_methods)
+        if isinstance(node, ast.For):
+            faults += faults_of_loop(node)
         if isinstance(node, ast.FunctionDef):
             faults += faults_of_def(node, top_names)
         if isinstance(node, ast.Expr) and not isinstance(node.value, ast.Call) and node not in docstrings(tree):
@@ -201,6 +253,18 @@ def files():
     return sorted(path for path in PACKAGE.rglob("*") if path.name != "__pycache__" and path.suffix != ".pyc")
 
 
+def of_classes():
+    """The names of all methods and of all values of objects in the package."""
+    methods, values = set(), set()
+    for path in files():
+        for node in ast.walk(ast.parse(path.read_text("utf-8"))):
+            if isinstance(node, ast.ClassDef):
+                methods.update(part.name for part in node.body if isinstance(part, ast.FunctionDef))
+            if isinstance(node, ast.Attribute) and isinstance(node.ctx, ast.Store):
+                values.add(node.attr)
+    return methods, values
+
+
 class Language(unittest.TestCase):
     def test_the_files(self):
         self.assertIn("__init__.py", [path.name for path in files()])
@@ -219,6 +283,14 @@ class Language(unittest.TestCase):
             for source, names in drawn_from(path.stem).items():
                 for name in names:
                     self.assertIn(name, defined_in(source), path.name)
+
+    def test_the_names_of_methods_and_values(self):
+        methods, values = of_classes()
+        python = {name for kind in (str, int, list, tuple, dict, set, frozenset, bytes) for name in dir(kind)}
+        self.assertIn("say", methods)
+        self.assertEqual(methods & values, set())
+        self.assertEqual(values & (python - set(LET_AS_VALUES)), set())
+        self.assertEqual(methods & (python - set(LET_AS_METHODS) - set(UNDERSCORED)), set())
 
     def test_no_two_files_draw_from_one_another(self):
         for path in files():
@@ -244,6 +316,8 @@ class TheReadingItself(unittest.TestCase):
                      inside + "return chr(xs)\n", inside + "return '%'\n", "# a type\n", "# \u00e9\n", "#" * 121 + "\n",
                      "def f(x):\n" + "    x = 1\n" * 40, "x = 1\n" * 401, inside + "del xs\n",
                      inside + "while xs:\n        pass\n    else:\n        pass\n",
+                     inside + "for x in xs:\n        xs.append(x)\n", inside + "for x in enumerate(xs):\n        xs[0] = x\n",
+                     "X = {1: [2]}\n", "X = [1]\n\n\ndef f(y):\n    return X\n", "X = {}\n\n\ndef f(y):\n    X[y] = 1\n",
                      inside + "try:\n        pass\n    except Exception:\n        pass\n"):
             with self.subTest(text[:60]):
                 self.assertNotEqual(faults_of(text), [])

@@ -177,6 +177,14 @@ class Mended(unittest.TestCase):
             told = self.assert_mended(spells, [(Fraction(0), Fraction(0))] * clans, [], [0] * 12)
             assert_same(self, told[:3], ("row", [clans - 1] * 12, 12))
 
+    def test_no_due_visit_is_left_out_for_the_row_handed_in(self):
+        for turns in (1, 2, 5, 16, 60):
+            # The first clan could have ten turns without a change, were the other one's visits not due.
+            told = self.assert_mended([(turns, [0, 1])], [TEN, (Fraction(0), Fraction(10))], [], [0] * turns)
+            assert_same(self, told[:3], ("row", [1] * turns, turns))
+            told = self.assert_mended([(turns, [1, 0])], [(Fraction(0), Fraction(10)), TEN], [], [1] * turns)
+            assert_same(self, told[:3], ("row", [0] * turns, turns))
+
     def test_no_row(self):
         for rules in ([("barred", 2, 0), ("barred", 2, 1)], [("fixed", 1, 0), ("fixed", 1, 1)]):
             for row in ([0, 0, 0], [1, 0, 1]):
